@@ -1,0 +1,1 @@
+"""Betweenlooks: what somebody who looks only now and then can know."""
