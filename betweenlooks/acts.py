@@ -3,7 +3,7 @@
 from math import lcm
 
 from betweenlooks.errors import BadAct, BadNumber, BadState, TooMany, Uneven
-from betweenlooks.walks import first_rows
+from betweenlooks.walks import first_steps, row_to
 from betweenlooks.words import is_index, is_integer
 
 MOST_ACTS = 300
@@ -123,12 +123,8 @@ def act_of(machine, row):
 def acts(machine):
     """The pairs of an act and the first row with this act, in the order of the rows."""
     least = machine.least()
-    deeds = least.deeds
     tables = [least.rows] * len(least)
-    begin = tuple(range(len(least)))
-    found = []
-    for states, row in first_rows(deeds, tables, begin):
-        if len(found) == MOST_ACTS:
-            raise TooMany("acts", MOST_ACTS + 1, MOST_ACTS)
-        found.append((states, row))
-    return [(Act(states), row) for states, row in found]
+    found = first_steps(least.deeds, tables, tuple(range(len(least))), MOST_ACTS)
+    if len(found) > MOST_ACTS:
+        raise TooMany("acts", MOST_ACTS + 1, MOST_ACTS)
+    return [(Act(states), row_to(found, states)) for states in found]

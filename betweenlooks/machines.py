@@ -1,10 +1,9 @@
 """Machines: deeds lead them from state to state, and in each state they tell something."""
 
 from betweenlooks.errors import BadRow, BadState, BadTell, NoDeed, NoEntry, OtherDeeds, TooMany, Uneven
-from betweenlooks.walks import first_rows, next_places
+from betweenlooks.tables import MOST_STATES, shrunk
+from betweenlooks.walks import first_steps, next_layer, next_places, row_to
 from betweenlooks.words import LONGEST_TELL, check_deeds, is_index, is_tell
-
-MOST_STATES = 60
 
 
 class Machine:
@@ -67,9 +66,8 @@ class Machine:
 
     def reached(self):
         """The pairs of a reached state and the first row that leads to it, in the order of the rows."""
-        tables = (self.rows,)
-        begin = (self.start,)
-        return [(states[0], row) for states, row in first_rows(self.deeds, tables, begin)]
+        found = first_steps(self.deeds, (self.rows,), (self.start,))
+        return [(states[0], row_to(found, states)) for states in found]
 
     def apart(self, a, b):
         """The first row that leads two states to different tells, or None."""
@@ -86,15 +84,12 @@ class Machine:
 
     def least(self):
         """The machine with the fewest states that tells the same after every row."""
-        groups = alike(self.rows, self.tells)
         numbers = {}
-        kept = []
         for state, _ in self.reached():
-            if groups[state] not in numbers:
-                numbers[groups[state]] = len(numbers)
-                kept.append(state)
-        rows = [[numbers[groups[led]] for led in self.rows[state]] for state in kept]
-        return Machine(self.deeds, rows, [self.tells[state] for state in kept])
+            numbers[state] = len(numbers)
+        rows = [[numbers[led] for led in self.rows[state]] for state in numbers]
+        rows, tells = shrunk(rows, [self.tells[state] for state in numbers])
+        return Machine(self.deeds, rows, tells)
 
     def telling(self, table):
         """The machine with each tell replaced by the value that the table has under it."""
@@ -128,47 +123,29 @@ def check_tells(tells, many):
 
 def first_parting(one, a, other, b):
     """The first row after which one machine from a and another one from b tell different things, or None."""
-    deeds = one.deeds
-    tables = (one.rows, other.rows)
-    begin = (a, b)
-    for (mine, theirs), row in first_rows(deeds, tables, begin):
-        if one.tells[mine] != other.tells[theirs]:
-            return row
+    met = {(a, b): None}
+    layer = {(a, b): None}
+    while len(layer) > 0:
+        for mine, theirs in layer:
+            if one.tells[mine] != other.tells[theirs]:
+                return row_to(met, (mine, theirs))
+        layer = next_layer(one.deeds, (one.rows, other.rows), layer, met)
+        for pair, step in layer.items():
+            met[pair] = step
     return None
-
-
-def alike(rows, tells):
-    """For each state a number; two states have the same number exactly if they are not apart."""
-    groups = numbered(tells)
-    while True:
-        finer = numbered([(groups[state], tuple([groups[led] for led in row])) for state, row in enumerate(rows)])
-        if finer == groups:
-            return groups
-        groups = finer
-
-
-def numbered(labels):
-    """For each label its number, where different labels are numbered as they come."""
-    numbers = {}
-    for label in labels:
-        if label not in numbers:
-            numbers[label] = len(numbers)
-    return [numbers[label] for label in labels]
 
 
 def side_by_side(one, other):
     """The machine that does what two machines with the same deeds do."""
-    deeds = one.deeds
-    tables = (one.rows, other.rows)
     begin = (one.start, other.start)
     numbers = {}
-    for pair, _ in first_rows(deeds, tables, begin):
+    for pair in first_steps(one.deeds, (one.rows, other.rows), begin, MOST_STATES):
         numbers[pair] = len(numbers)
-        if len(numbers) > MOST_STATES:
-            raise TooMany("states", MOST_STATES + 1, MOST_STATES)
+    if len(numbers) > MOST_STATES:
+        raise TooMany("states", MOST_STATES + 1, MOST_STATES)
     tells = [one.tells[a] + "/" + other.tells[b] for a, b in numbers]
     for tell in tells:
         if len(tell) > LONGEST_TELL:
             raise TooMany("characters", LONGEST_TELL + 1, LONGEST_TELL)
     rows = [[numbers[led] for led in zip(one.rows[a], other.rows[b])] for a, b in numbers]
-    return Machine(deeds, rows, tells)
+    return Machine(one.deeds, rows, tells)

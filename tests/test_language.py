@@ -95,6 +95,31 @@ class Rules(unittest.TestCase):
             if "__getitem__" in names:
                 self.assertIn("__iter__", names, place)
 
+    def test_l5_operators_and_properties_run_no_generator(self):
+        """Names aside, nothing is known of what is called: each function and method of a name counts."""
+        called, waiting, generators = set(), [], set()
+        bodies = {}
+        for _, node in self.nodes(ast.FunctionDef):
+            bodies.setdefault(node.name, []).append(node)
+            if any(isinstance(part, (ast.Yield, ast.YieldFrom)) for part in ast.walk(node)):
+                generators.add(node.name)
+            marks = {mark.id for mark in node.decorator_list if isinstance(mark, ast.Name)}
+            if "property" in marks or (node.name.startswith("__") and node.name not in ("__init__", "__iter__")):
+                waiting.append(node)
+        for _, node in self.nodes(ast.ClassDef):
+            bodies.setdefault(node.name, []).extend(
+                row for row in node.body if isinstance(row, ast.FunctionDef) and row.name == "__init__")
+        self.assertTrue(waiting)
+        while waiting:
+            for part in ast.walk(waiting.pop()):
+                if isinstance(part, ast.Call) and isinstance(part.func, (ast.Name, ast.Attribute)):
+                    name = part.func.id if isinstance(part.func, ast.Name) else part.func.attr
+                    if name not in called:
+                        called.add(name)
+                        waiting.extend(bodies.get(name, []))
+        self.assertEqual(called & generators, set())
+        self.assertEqual(called & {"sort", "add", "discard", "heappush", "heappop"}, set())
+
     def test_l6_statements(self):
         for place, node in self.nodes(ast.stmt):
             self.assertIsInstance(node, STATEMENTS, place)
