@@ -7,6 +7,9 @@ DIGITS = "0123456789"
 LONGEST_WORD = 12
 LONGEST_TELL = 60
 MOST_DEEDS = 6
+LONGEST_PATTERN = 12
+KINDS = ("carried", "stretch", "joined", "taken")
+RULES = ("kept", "cleared")
 
 
 def is_integer(value):
@@ -47,3 +50,19 @@ def check_deeds(deeds):
     check_different(deeds)
     if len(deeds) > MOST_DEEDS:
         raise TooMany("deeds", len(deeds), MOST_DEEDS)
+
+
+def check_row(row):
+    """Raise BadDeeds unless all members of a row are deeds."""
+    for index, deed in enumerate(row):
+        if not is_word(deed):
+            raise BadDeeds(index)
+
+
+def check_pattern(pattern):
+    """Raise an error unless this is a pattern: deeds that may be equal, and not too many."""
+    check_row(pattern)
+    if len(pattern) == 0:
+        raise BadDeeds(0)
+    if len(pattern) > LONGEST_PATTERN:
+        raise TooMany("deeds", len(pattern), LONGEST_PATTERN)
