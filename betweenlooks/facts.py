@@ -10,7 +10,7 @@ from betweenlooks.ways import (
     Among, Beside, CountedChanges, Counted, Earlier, Ending, Holding, LastDeeds, LastOf, Raised, Replaced, Restarted,
     Scattering, Seen, SeenTell, Turned,
 )
-from betweenlooks.words import check_different, check_pattern, is_integer, is_tell
+from betweenlooks.words import check_group, check_pattern, is_integer, is_tell
 
 MOST_LEVELS = 100
 GREATEST_NUMBER = 59
@@ -75,7 +75,7 @@ class Done(Fact):
     """Whether a deed of the group was done."""
 
     def __init__(self, group):
-        check_different(group)
+        check_group(group)
         self.group = tuple(group)
         super().__init__("done", (self.group,), (), Seen(self.group))
 
@@ -90,7 +90,7 @@ class Latest(Fact):
     """The last deed done that is in the group."""
 
     def __init__(self, group):
-        check_different(group)
+        check_group(group)
         self.group = tuple(group)
         super().__init__("latest", (self.group,), (), LastOf(self.group))
 
@@ -105,7 +105,7 @@ class Count(Fact):
     """How many of the deeds done are in the group, but never more than top."""
 
     def __init__(self, group, top):
-        check_different(group)
+        check_group(group)
         check_number(top)
         self.group = tuple(group)
         self.top = top
@@ -122,7 +122,7 @@ class Turn(Fact):
     """How many of the deeds done are in the group, modulo modulus."""
 
     def __init__(self, group, modulus):
-        check_different(group)
+        check_group(group)
         check_number(modulus)
         self.group = tuple(group)
         self.modulus = modulus
@@ -139,8 +139,8 @@ class Level(Fact):
     """A level from 0 to top, which the deeds of one group raise and those of another one lower."""
 
     def __init__(self, up, down, top):
-        check_different(up)
-        check_different(down)
+        check_group(up)
+        check_group(down)
         check_number(top)
         self.up = tuple(up)
         self.down = tuple(down)
@@ -158,8 +158,8 @@ class Ahead(Fact):
     """Whether the first deed that is in one of two groups is in the first one."""
 
     def __init__(self, first, second):
-        check_different(first)
-        check_different(second)
+        check_group(first)
+        check_group(second)
         self.first = tuple(first)
         self.second = tuple(second)
         super().__init__("ahead", (self.first, self.second), (), Earlier(self.first, self.second))
@@ -235,7 +235,7 @@ class Since(Fact):
     """What a fact tells after the deeds behind the last deed of the group."""
 
     def __init__(self, group, fact):
-        check_different(group)
+        check_group(group)
         self.group = tuple(group)
         self.fact = fact
         super().__init__("since", (self.group,), (fact,), Restarted(self.group))

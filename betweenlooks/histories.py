@@ -124,7 +124,7 @@ def histories(deeds, looks, most):
 
 def all_places(length, looks):
     """All places of so many looks in a row of a length, with the last look at its end, in ascending order."""
-    found = [()]
+    found = [(0,)]
     for _ in range(looks - 1):
-        found = [places + (place,) for places in found for place in range((0, *places)[-1], length + 1)]
-    return [places + (length,) for places in found]
+        found = [places + (place,) for places in found for place in range(places[-1], length + 1)]
+    return [places[1:] + (length,) for places in found]

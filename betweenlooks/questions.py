@@ -4,7 +4,7 @@ from heapq import heappop, heappush
 
 from betweenlooks.errors import BadKind, BadState, NoDeed, OtherDeeds, OtherKind
 from betweenlooks.histories import History
-from betweenlooks.words import KINDS, is_index
+from betweenlooks.words import KINDS, LATE_KINDS, is_index
 
 
 class Question:
@@ -46,7 +46,7 @@ class Question:
             raise BadState(state)
         states = []
         for stretch in history:
-            if len(states) == 0 and self.kind in ("joined", "taken"):
+            if len(states) == 0 and self.kind in LATE_KINDS:
                 states.append(state if self.kind == "taken" else self.core.start)
             elif len(states) == 0 or self.kind == "stretch":
                 states.append(self.core.after(stretch))

@@ -125,10 +125,9 @@ def tells_in(tables, states):
 
 def same_facts(one, other):
     """Whether two facts are of one class and have equal attributes, at every depth."""
-    waiting = [(one, other)]
-    while len(waiting) > 0:
-        a, b = waiting.pop()
-        if a.word != b.word or a.plain != b.plain:
+    level = [(one, other)]
+    while len(level) > 0:
+        if not all([a.word == b.word and a.plain == b.plain for a, b in level]):
             return False
-        waiting.extend(list(zip(a.parts, b.parts)))
+        level = [pair for a, b in level for pair in zip(a.parts, b.parts)]
     return True

@@ -9,6 +9,7 @@ LONGEST_TELL = 60
 MOST_DEEDS = 6
 LONGEST_PATTERN = 12
 KINDS = ("carried", "stretch", "joined", "taken")
+LATE_KINDS = ("joined", "taken")
 RULES = ("kept", "cleared")
 
 
@@ -37,17 +38,22 @@ def is_tell(value):
 
 
 def check_different(deeds):
-    """Raise BadDeeds unless these are different deeds, and at least one."""
+    """Raise BadDeeds unless these are different deeds."""
     for index, deed in enumerate(deeds):
         if not is_word(deed) or deed in deeds[:index]:
             raise BadDeeds(index)
+
+
+def check_group(deeds):
+    """Raise BadDeeds unless these are different deeds, and at least one."""
+    check_different(deeds)
     if len(deeds) == 0:
         raise BadDeeds(0)
 
 
 def check_deeds(deeds):
     """Raise an error unless a machine may have these deeds."""
-    check_different(deeds)
+    check_group(deeds)
     if len(deeds) > MOST_DEEDS:
         raise TooMany("deeds", len(deeds), MOST_DEEDS)
 

@@ -3,6 +3,8 @@
 import unittest
 
 from betweenlooks import errors
+from betweenlooks.clashes import Clash
+from betweenlooks.histories import History
 
 FIELDS = {
     "BadDeeds": ("index",), "TooMany": ("what", "many", "most"), "BadRow": ("index",), "BadTell": ("index",),
@@ -57,11 +59,27 @@ class Errors(unittest.TestCase):
                     with self.assertRaises(TypeError):
                         getattr(errors, name)(*fields, "more")
 
+    def test_fields_of_all_kinds(self):
+        clash = Clash(History.read("|"), History.read("x |"))
+        values = [0, 10 ** 30, "x", ("x", "y"), (), None, True, 1.5, [1], {"x": 1}, clash, object()]
+        for name, fields in FIELDS.items():
+            for shift in range(len(values)):
+                given = [values[(shift + k) % len(values)] for k in range(len(fields))]
+                error = getattr(errors, name)(*given)
+                for field, value in zip(fields, given):
+                    self.assertIs(getattr(error, field), value)
+
     def test_they_are_raised_and_caught(self):
         for name, fields in FIELDS.items():
             with self.subTest(name):
                 with self.assertRaises(ValueError):
                     raise getattr(errors, name)(*fields)
+                try:
+                    raise getattr(errors, name)(*fields)
+                except errors.LooksError as error:
+                    kinds = [kind for kind in vars(errors).values()
+                             if isinstance(kind, type) and isinstance(error, kind)]
+                    self.assertEqual(sorted(kind.__name__ for kind in kinds), sorted([name, "LooksError"]))
 
 
 if __name__ == "__main__":
