@@ -108,11 +108,7 @@ def histories(deeds, looks, most):
         raise BadNumber(looks)
     if not is_integer(most) or not 0 <= most <= MOST_DONE:
         raise BadNumber(most)
-    many = 0
-    for length in range(most + 1):
-        many += len(deeds) ** length * comb(length + looks - 1, length)
-        if many > MOST_HISTORIES:
-            raise TooMany("histories", MOST_HISTORIES + 1, MOST_HISTORIES)
+    check_how_many(len(deeds), looks, most)
     found = []
     rows = [()]
     for length in range(most + 1):
@@ -120,6 +116,17 @@ def histories(deeds, looks, most):
         found.extend([History(stretches_of(row, places)) for row in rows for places in cuts])
         rows = [row + (deed,) for row in rows for deed in deeds]
     return found
+
+
+def check_how_many(deeds, looks, most):
+    """Raise TooMany if there are too many histories over so many deeds."""
+    many = 0
+    rows = 1
+    for length in range(most + 1):
+        many += rows * comb(length + looks - 1, length)
+        if many > MOST_HISTORIES:
+            raise TooMany("histories", MOST_HISTORIES + 1, MOST_HISTORIES)
+        rows = rows * deeds
 
 
 def all_places(length, looks):

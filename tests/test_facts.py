@@ -234,6 +234,12 @@ class Equality(unittest.TestCase):
             self.assertEqual(made, by_class)
             self.assertIs(made.__class__, by_class.__class__)
 
+    def test_operators_with_values_of_other_kinds(self):
+        for other in [None, "done(a)", 1, True, A.machine_for(("a",))]:
+            for call in [lambda: A & other, lambda: A | other, lambda: A ^ other, lambda: A * other]:
+                with self.assertRaises(TypeError):
+                    call()
+
     def test_operators_of_every_class(self):
         for fact in self.all_kinds():
             self.assertEqual([~fact, fact & A, fact | A, fact ^ A, fact * A],

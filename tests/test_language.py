@@ -135,6 +135,40 @@ class Rules(unittest.TestCase):
             if isinstance(node.func, ast.Name) and node.func.id in ("any", "all", "min", "max", "sum", "sorted"):
                 self.assertFalse([arg for arg in node.args if isinstance(arg, ast.GeneratorExp)], place)
 
+    def test_l5_what_is_not_implemented(self):
+        for path, tree in self.trees.items():
+            returned = [id(node.value) for node in ast.walk(tree) if isinstance(node, ast.Return)]
+            for node in ast.walk(tree):
+                if isinstance(node, ast.Name) and node.id == "NotImplemented":
+                    self.assertIn(id(node), returned, f"{path.name}:{node.lineno}")
+
+    def test_l7_stars_stand_before_names_and_literals(self):
+        for place, node in self.nodes(ast.Call):
+            for arg in node.args:
+                if isinstance(arg, ast.Starred):
+                    self.assertIsInstance(arg.value, (ast.Name, ast.Attribute, ast.List, ast.Tuple), place)
+
+    def test_l20_is(self):
+        for place, node in self.nodes(ast.Compare):
+            for sign, side in zip(node.ops, node.comparators):
+                if isinstance(sign, (ast.Is, ast.IsNot)):
+                    self.assertTrue(isinstance(side, ast.Constant) and side.value in (None, True, False), place)
+
+    def test_l24_and_l5_sets_are_sorted_or_counted(self):
+        for path, tree in self.trees.items():
+            calls = [node for node in ast.walk(tree) if isinstance(node, ast.Call) and isinstance(node.func, ast.Name)]
+            taken = {id(arg) for node in calls if node.func.id in ("len", "sorted") for arg in node.args}
+            sets = [node for node in calls if node.func.id == "set"]
+            sets += [node for node in ast.walk(tree) if isinstance(node, (ast.Set, ast.SetComp))]
+            for node in sets:
+                self.assertIn(id(node), taken, f"{path.name}:{node.lineno}")
+
+    def test_l27_powers(self):
+        for place, node in self.nodes(ast.BinOp):
+            if isinstance(node.op, ast.Pow):
+                self.assertIsInstance(node.right, ast.Constant, place)
+                self.assertLessEqual(node.right.value, 64, place)
+
     def test_l8_builtins(self):
         for path, tree in self.trees.items():
             bound = {name for name, _ in bound_names(tree)}

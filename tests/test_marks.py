@@ -192,6 +192,8 @@ class Readings(ErrorCase):
     def test_foreign_deeds(self):
         self.assert_error(NoDeed, (0,), LOT.readings, History.read("z |"))
         self.assert_error(NoDeed, (3,), LOT.readings, History.read("a | | b a z | y |"))
+        self.assert_error(NoDeed, (3,), Lot([LATCH]).readings, History.read("a | | b a z | y |"))
+        self.assert_error(NoDeed, (1,), Lot([LATCH] * 6).readings, History.read("a | z |"))
         self.assertEqual(Lot([]).readings(History.read("z | y |")), [(), ()])
         self.assertEqual(Lot([]).readings(History()), [])
 
