@@ -25,7 +25,7 @@ class Places:
     """The places that count, numbered from 0 as they are found; the first one is that of all beginnings.
 
     `found[k]` is the pair of the values and the state at place k, `rows[k]` tells where the deeds lead from there,
-    `shown[k]` the reading, `answers[k]` the answer to a question that was asked from the beginning, `behind[k]` where a
+    `shown[k]` the reading, `tells[k]` the answer to a question that was asked from the beginning, `behind[k]` where a
     look leads. `firsts[k]` tells it for the first look: the list of the pairs of a told state, or None, and a place.
     """
 
@@ -38,7 +38,7 @@ class Places:
             numbers[place] = len(numbers)
         self.rows = [[numbers[led] for led in led_by_deeds(question, lot, place)] for place in self.found]
         self.shown = [lot.look(values)[0] for values, _ in self.found]
-        self.answers = [question.core.tells[state] for _, state in self.found]
+        self.tells = [question.core.tells[state] for _, state in self.found]
         self.behind = [numbers[behind_look(question, lot, place)] for place in self.found]
         self.firsts = []
         for place in self.found:

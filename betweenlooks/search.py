@@ -1,26 +1,6 @@
 """Search: two histories that look alike and need different answers."""
 
-from betweenlooks.timings import Timing
-
-
-def stretch_rows(places, begin, timing):
-    """The dict of the places to which stretches lead a place, each with the first such stretch that is found."""
-    rows = {begin: ()}
-    ended = {}
-    layer = [begin]
-    length = 0
-    while len(layer) > 0 and (timing.most is None or length < timing.most):
-        later = []
-        for place in layer:
-            for deed, led in zip(places.deeds, places.rows[place]):
-                if deed in timing.owed:
-                    ended[led] = rows[place] + (deed,)
-                elif led not in rows:
-                    rows[led] = rows[place] + (deed,)
-                    later.append(led)
-        layer = later
-        length += 1
-    return {**ended, **rows}
+from betweenlooks.stretches import Stretches
 
 
 class Search:
@@ -33,18 +13,9 @@ class Search:
 
     def __init__(self, places, timing):
         self.places = places
-        self.timing = timing
+        self.stretches = Stretches(places, timing)
         self.steps = {}
-        self.rows = {}
-        # Whoever comes at the first look does not know how long the stretch ahead of it was.
-        self.before = stretch_rows(places, 0, Timing()) if places.is_late else {}
         self.halves = {}
-
-    def stretches_from(self, place):
-        """The dict of the places to which stretches behind a look lead from a place, with the stretches."""
-        if place not in self.rows:
-            self.rows[place] = stretch_rows(self.places, place, self.timing)
-        return self.rows[place]
 
     def unlike(self):
         """The stretches of two histories and the told state that make a clash with the fewest looks, or None."""
@@ -53,7 +24,7 @@ class Search:
             later = []
             for pair in layer:
                 for one, other in self.look_alike(pair):
-                    if self.places.answers[one] != self.places.answers[other]:
+                    if self.places.tells[one] != self.places.tells[other]:
                         return self.history_to(pair, one, other)
                     led = (self.places.behind[one], self.places.behind[other])
                     if led not in self.steps:
@@ -68,8 +39,9 @@ class Search:
             self.steps[(0, 0)] = (None, None, None, None)
             return [(0, 0)]
         pairs = []
-        for one in self.before:
-            for other in self.before:
+        before = self.stretches.ends(None)
+        for one in before:
+            for other in before:
                 if self.places.shown[one] != self.places.shown[other]:
                     continue
                 for (told, led), (_, also) in zip(self.places.firsts[one], self.places.firsts[other]):
@@ -81,12 +53,12 @@ class Search:
     def look_alike(self, pair):
         """The places at the next look to which stretches lead a pair, as far as they show the same."""
         found = []
-        for one in self.stretches_from(pair[0]):
+        for one in self.stretches.ends(pair[0]):
             # What comes of one history's stretch does not depend on where that stretch began.
             if (one, pair[1]) not in self.halves:
                 self.halves[(one, pair[1])] = True
                 shown = self.places.shown
-                found.extend([(one, other) for other in self.stretches_from(pair[1]) if shown[one] == shown[other]])
+                found.extend([(one, other) for other in self.stretches.ends(pair[1]) if shown[one] == shown[other]])
         return found
 
     def history_to(self, pair, one, other):
@@ -95,10 +67,10 @@ class Search:
         second = []
         told = None
         while pair is not None:
-            first.append(self.stretches_from(pair[0])[one])
-            second.append(self.stretches_from(pair[1])[other])
+            first.append(self.stretches.ends(pair[0])[one])
+            second.append(self.stretches.ends(pair[1])[other])
             pair, one, other, told = self.steps[pair]
         if one is not None:
-            first.append(self.before[one])
-            second.append(self.before[other])
+            first.append(self.stretches.ends(None)[one])
+            second.append(self.stretches.ends(None)[other])
         return (first[::-1], second[::-1], told)

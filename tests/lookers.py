@@ -1,6 +1,7 @@
 """What watchers can know, reckoned with sets of places: another way to the answers about clashes."""
 
 from betweenlooks.acts import acts
+from betweenlooks.histories import History
 from betweenlooks.machines import Machine
 from betweenlooks.marks import Lot, Mark
 from betweenlooks.questions import Question
@@ -88,6 +89,61 @@ def fewest_looks(question, lot, timing=None):
         layer = later - met
         met |= layer
     return None
+
+
+class Knower:
+    """What a watcher knows, reckoned with sets of places."""
+
+    def __init__(self, question, lot, timing=None, state=None):
+        self.question, self.lot, self.timing, self.state = question, lot, timing or Timing(), state
+        self.now, self.answers, self.states = None, (), ()
+
+    def groups(self):
+        """For each reading that may come next: the places at this look, and those directly behind it."""
+        late = self.question.kind in LATE
+        begins = {(self.lot.begin, 0)} if self.now is None else self.now
+        timing = Timing() if self.now is None and late else self.timing
+        found = {}
+        for shown, places in by_reading(self.lot, ends(self.question, self.lot, begins, timing)).items():
+            if self.now is None and late:
+                places = {(values, self.state or 0) for values, _ in places}
+            behind = {(looked(self.lot, place), 0 if self.question.kind == "stretch" else place[1])
+                      for place in places}
+            found[shown] = (frozenset(places), frozenset(behind))
+        return found
+
+    def look(self, shown):
+        places, self.now = self.groups()[shown]
+        self.states = tuple(sorted({state for _, state in places}))
+        self.answers = tuple(sorted({self.question.core.tells[state] for state in self.states}))
+        return self.answers[0] if len(self.answers) == 1 else None
+
+
+def knowledge(question, lot, timing=None, most=1000):
+    """All sets of places that a watcher may know of directly behind a look, as many as told and a few more."""
+    knower = Knower(question, lot, timing)
+    waiting, met = [None], set()
+    while waiting and len(met) <= most:
+        knower.now = waiting.pop()
+        for _, behind in knower.groups().values():
+            if behind not in met:
+                met.add(behind)
+                waiting.append(behind)
+    return met
+
+
+def some_history(chance, question, timing, looks):
+    """Any history that keeps the timing, with so many looks."""
+    stretches = []
+    for k in range(looks):
+        free = k == 0 and question.kind in LATE
+        stretch = []
+        for _ in range(chance.randint(0, 4)):
+            more = stretch + [chance.choice(question.deeds)]
+            if free or timing.allows(more):
+                stretch = more
+        stretches.append(stretch)
+    return History(stretches)
 
 
 def acts_machine(question):

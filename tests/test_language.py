@@ -96,29 +96,39 @@ class Rules(unittest.TestCase):
                 self.assertIn("__iter__", names, place)
 
     def test_l5_operators_and_properties_run_no_generator(self):
-        """Names aside, nothing is known of what is called: each function and method of a name counts."""
+        """Nothing is known of objects: what is called off one may be each method of this name, of whatever class."""
         called, waiting, generators = set(), [], set()
-        bodies = {}
+        plain, methods, bases = {}, {}, {}
+        for _, node in self.nodes(ast.ClassDef):
+            bases[node.name] = [base.id for base in node.bases]
+            for row in node.body:
+                if isinstance(row, ast.FunctionDef):
+                    methods.setdefault(row.name, []).append(row)
+                    marks = {mark.id for mark in row.decorator_list if isinstance(mark, ast.Name)}
+                    if "property" in marks or (row.name.startswith("__") and row.name not in ("__init__", "__iter__")):
+                        waiting.append(row)
+                    if row.name == "__init__":
+                        plain[node.name] = [row]
+        for name in bases:
+            plain[name] = [row for kind in (name, *bases[name]) for row in plain.get(kind, [])]
+        known = {id(row) for rows in methods.values() for row in rows}
         for _, node in self.nodes(ast.FunctionDef):
-            bodies.setdefault(node.name, []).append(node)
+            if id(node) not in known:
+                plain.setdefault(node.name, []).append(node)
             if any(isinstance(part, (ast.Yield, ast.YieldFrom)) for part in ast.walk(node)):
                 generators.add(node.name)
-            marks = {mark.id for mark in node.decorator_list if isinstance(mark, ast.Name)}
-            if "property" in marks or (node.name.startswith("__") and node.name not in ("__init__", "__iter__")):
-                waiting.append(node)
-        for _, node in self.nodes(ast.ClassDef):
-            bodies.setdefault(node.name, []).extend(
-                row for row in node.body if isinstance(row, ast.FunctionDef) and row.name == "__init__")
         self.assertTrue(waiting)
         while waiting:
             for part in ast.walk(waiting.pop()):
                 if isinstance(part, ast.Call) and isinstance(part.func, (ast.Name, ast.Attribute)):
-                    name = part.func.id if isinstance(part.func, ast.Name) else part.func.attr
-                    if name not in called:
-                        called.add(name)
-                        waiting.extend(bodies.get(name, []))
-        self.assertEqual(called & generators, set())
-        self.assertEqual(called & {"sort", "add", "discard", "heappush", "heappop"}, set())
+                    is_plain = isinstance(part.func, ast.Name)
+                    name = part.func.id if is_plain else part.func.attr
+                    if (is_plain, name) not in called and name != "__init__":
+                        called.add((is_plain, name))
+                        waiting.extend((plain if is_plain else methods).get(name, []))
+        names = {name for _, name in called}
+        self.assertEqual(names & generators, set())
+        self.assertEqual(names & {"sort", "add", "discard", "heappush", "heappop"}, set())
 
     def test_l6_statements(self):
         for place, node in self.nodes(ast.stmt):
