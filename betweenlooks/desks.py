@@ -8,7 +8,7 @@ from betweenlooks.histories import History
 from betweenlooks.marks import MOST_MARKS
 from betweenlooks.pages import deeds_line, limit_line, read_deeds, read_step
 from betweenlooks.questions import Question
-from betweenlooks.setups import Setup
+from betweenlooks.setups import bare_setup
 from betweenlooks.texts import fact_text
 from betweenlooks.timings import Timing
 from betweenlooks.watchers import Watcher
@@ -24,7 +24,7 @@ class Desk:
     def __init__(self, deeds):
         check_deeds(deeds)
         self._lines = []
-        self._setups = [Setup(deeds)]
+        self._setups = [bare_setup(deeds)]
         self._show()
 
     def _show(self):
@@ -33,8 +33,7 @@ class Desk:
         self.deeds = self._setup.deeds
         self.timing = self._setup.timing
         self.lot = self._setup.lot
-        self.marks = self._setup.mark_names()
-        self.questions = self._setup.question_names()
+        self.marks, self.questions = self._setup.names()
 
     def _step(self, line, setup):
         """Do a step, if the lot suffices behind it."""
@@ -52,7 +51,7 @@ class Desk:
         if name not in self.marks and len(self.marks) == MOST_MARKS:
             raise TooMany("marks", MOST_MARKS + 1, MOST_MARKS)
         line = f"put {name} {rule} {fact_text(fact)}"
-        self._step(line, self._setup.with_mark((name, fact, rule)))
+        self._step(line, self._setup.with_mark(name, fact, rule))
 
     def ask(self, name, fact, kind="carried"):
         """Make a question, or another one in the place of the one with this name."""
@@ -61,7 +60,7 @@ class Desk:
         if kind not in KINDS:
             raise BadKind(kind)
         line = f"ask {name} {kind} {fact_text(fact)}"
-        self._step(line, self._setup.with_question((name, fact, kind)))
+        self._step(line, self._setup.with_question(name, fact, kind))
 
     def drop(self, name):
         """Remove the mark or the question with this name."""
@@ -96,9 +95,7 @@ class Desk:
     def __getitem__(self, at):
         if at not in self:
             raise BadName(at)
-        if at in self.marks:
-            return self.lot[self.marks.index(at)]
-        return self._setup.questions[self.questions.index(at)]
+        return self._setup.thing(at)
 
     def __iter__(self):
         raise TypeError("a desk is not iterated over")
@@ -175,8 +172,7 @@ class Desk:
     def shift(self, states=None):
         """Begin a shift; a dict tells the states of taken questions at the first look."""
         told = {} if states is None else states
-        named = self._setup.named_questions()
-        taken = {name: question for name, question in named if question.kind == "taken"}
+        taken = {entry.name: entry.made for entry in self._setup.questions if entry.way == "taken"}
         for name in sorted(list(told)):
             if name not in taken:
                 raise BadName(name)
@@ -209,9 +205,9 @@ class Shift:
     def __init__(self, setup, states):
         self._setup = setup
         self._watchers = {}
-        for name, question in setup.named_questions():
-            told = states.get(name, None)
-            self._watchers[name] = Watcher(question, setup.lot, setup.timing, state=told)
+        for entry in setup.questions:
+            told = states.get(entry.name, None)
+            self._watchers[entry.name] = Watcher(entry.made, setup.lot, setup.timing, state=told)
         self._values = setup.lot.begin
         self._stretches = ()
         self._stretch = ()

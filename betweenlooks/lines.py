@@ -7,7 +7,7 @@ GREATEST_BEGIN = 99
 GREATEST_PERIOD = 99
 SINGLE_KINDS = ("latch", "count")
 PARTED_KINDS = ("level", "last", "first", "ends", "recent")
-SIMPLE_KINDS = SINGLE_KINDS + PARTED_KINDS + ("chain",)
+SIMPLE_KINDS = ("latch", "chain", "level", "last", "first", "ends", "recent", "count")
 
 
 def read_line(deeds, line):

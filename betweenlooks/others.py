@@ -1,21 +1,18 @@
 """Others: what is left to a watcher when somebody else looks at the same marks, too."""
 
 from betweenlooks.clashes import clash
-from betweenlooks.errors import BadDeeds, BadIndex, TooMany, Uneven
+from betweenlooks.errors import BadIndex, Uneven
 from betweenlooks.lots import all_choices
 from betweenlooks.machines import Machine
 from betweenlooks.marks import Lot, Mark
 from betweenlooks.places import check_same_deeds
 from betweenlooks.questions import Question
-from betweenlooks.words import MOST_DEEDS, is_index, is_word
+from betweenlooks.words import is_index
 
 
 def with_deed(machine, deed, led):
     """The machine with one more deed, which leads each state to the state in the list `led`."""
-    if not is_word(deed) or deed in machine.deeds:
-        raise BadDeeds(len(machine.deeds))
-    if len(machine.deeds) == MOST_DEEDS:
-        raise TooMany("deeds", MOST_DEEDS + 1, MOST_DEEDS)
+    # What is no new deed, or one too many, the machine refuses; its place is the number of the deeds so far.
     rows = [row + (to,) for row, to in zip(machine.rows, led)]
     return Machine(machine.deeds + (deed,), rows, machine.tells, machine.start)
 

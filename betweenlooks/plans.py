@@ -180,7 +180,7 @@ def most_between(plan, lot, run):
 
 
 def calm(plan, lot):
-    """How many deeds a look may have at most so that none is torn: None if any number, -1 if none is too many."""
+    """How many deeds a look may have at most so that none is torn: None if any number, -1 if even 0 are too many."""
     check_even(plan, lot)
     course = Course(plan, lot)
     run = Torn(plan, course, None, True).first_run()
@@ -237,7 +237,7 @@ def report(plan, lot, machine, when, most=None):
     for row in looks.all_told():
         if not looks.has_right(row):
             return Doubt(row, looks.runs_against(row))
-        answers[row] = looks.right_tells(row)[0]
+        answers[row] = looks.right_tell(row)
     return Report(answers)
 
 

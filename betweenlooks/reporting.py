@@ -21,6 +21,7 @@ class Reporting:
         self.bits = [1 << self.tells.index(tell) for tell in course.tells]
         self.sets = {}
         self.rows_told = {}
+        self.is_lost = False
 
     def joined(self, one, other):
         """What two ways to the same stand or row leave: for `some` the tells of both, otherwise those of either."""
@@ -37,15 +38,13 @@ class Reporting:
             # What the machine tells at the last read is not known until then.
             later[(place, 0, self.demands.blank)] = 0 if self.when == "last" else self.bits[place]
         deeds = 0
-        while len(later) > 0 and (self.most is None or deeds <= self.most):
+        while len(later) > 0 and not self.is_lost and (self.most is None or deeds <= self.most):
             waiting = []
             for stand in later:
                 if self.is_changed(stand, later[stand]):
                     waiting.append(stand)
             later = self.layer_behind(waiting)
             deeds += 1
-            if not all([self.has_right(row) for row in self.rows_told]):
-                break
         return self.rows_told
 
     def is_changed(self, stand, held):
@@ -85,15 +84,17 @@ class Reporting:
         """Note that a look tells the row of this memory."""
         row = self.demands.row_told(memory)
         self.rows_told[row] = self.joined(self.rows_told[row], held) if row in self.rows_told else held
-
-    def right_tells(self, row):
-        """The tells that are right for all looks that are known to tell the row, ascending."""
-        held = [tell for index, tell in enumerate(self.tells) if (self.rows_told[row] >> index) % 2 == 1]
-        return held if self.when == "some" or len(held) == 1 else []
+        self.is_lost = self.is_lost or not self.has_right(row)
 
     def has_right(self, row):
-        """Whether there is a tell that is right for all these looks."""
-        return len(self.right_tells(row)) > 0
+        """Whether there is a tell that is right for all looks that are known to tell the row."""
+        held = self.rows_told[row]
+        # A number has a single bit exactly if it has none in common with the number ahead of it.
+        return held > 0 if self.when == "some" else held & (held - 1) == 0
+
+    def right_tell(self, row):
+        """The first tell that is right for all these looks."""
+        return [tell for index, tell in enumerate(self.tells) if (self.rows_told[row] >> index) % 2 == 1][0]
 
     def runs_against(self, row):
         """Runs that end with looks that tell the row, such that no tell is right for all of them."""

@@ -8,86 +8,112 @@ from betweenlooks.questions import Question
 from betweenlooks.timings import Timing
 
 
+class Entry:
+    """A mark or a question with its name, and what it was made from: a fact, and the rule or the kind."""
+
+    def __init__(self, name, fact, way, made):
+        self.name = name
+        self.fact = fact
+        self.way = way
+        self.made = made
+
+    def label(self):
+        """What tells this entry from others."""
+        return (self.name, self.way, self.fact)
+
+
+def mark_entry(deeds, name, fact, rule):
+    """The entry of a mark."""
+    return Entry(name, fact, rule, Mark(fact.machine_for(deeds), rule))
+
+
+def question_entry(deeds, name, fact, kind):
+    """The entry of a question."""
+    return Entry(name, fact, kind, Question.of(fact, deeds, kind))
+
+
+def with_entry(entries, entry):
+    """The entries, in which this one takes the place of that with the same name, or else comes behind."""
+    if entry.name not in [own.name for own in entries]:
+        return entries + [entry]
+    return [entry if own.name == entry.name else own for own in entries]
+
+
 class Setup:
-    """The deeds, the timing, and the entries of the marks and questions of a desk, with what is made of them.
+    """The deeds, the timing, and the entries of the marks and questions of a desk."""
 
-    An entry is a triple: the name, the fact, and the rule or kind.
-    """
-
-    def __init__(self, deeds, timing=None, mark_entries=(), question_entries=()):
+    def __init__(self, deeds, timing, marks, questions):
         self.deeds = tuple(deeds)
-        self.timing = Timing() if timing is None else timing
-        self.mark_entries = tuple(mark_entries)
-        self.question_entries = tuple(question_entries)
-        self.marks = tuple([Mark(fact.machine_for(deeds), rule) for _, fact, rule in mark_entries])
-        self.questions = tuple([Question.of(fact, deeds, kind) for _, fact, kind in question_entries])
-        self.lot = Lot(self.marks)
+        self.timing = timing
+        self.marks = list(marks)
+        self.questions = list(questions)
+        self.lot = Lot([entry.made for entry in marks])
 
-    def mark_names(self):
-        """The names of the marks."""
-        return tuple([name for name, _, _ in self.mark_entries])
+    def names(self):
+        """The names of the marks and those of the questions, as two tuples."""
+        return (tuple([entry.name for entry in self.marks]), tuple([entry.name for entry in self.questions]))
 
-    def question_names(self):
-        """The names of the questions."""
-        return tuple([name for name, _, _ in self.question_entries])
-
-    def named_questions(self):
-        """The pairs of the name of a question and the question."""
-        return list(zip(self.question_names(), self.questions))
+    def thing(self, name):
+        """The mark or question with this name."""
+        return [entry.made for entry in self.marks + self.questions if entry.name == name][0]
 
     def is_like(self, other):
         """Whether two setups have equal deeds, timings and entries."""
         if self.deeds != other.deeds or self.timing != other.timing:
             return False
-        return self.mark_entries == other.mark_entries and self.question_entries == other.question_entries
+        mine = [[entry.label() for entry in entries] for entries in (self.marks, self.questions)]
+        return mine == [[entry.label() for entry in entries] for entries in (other.marks, other.questions)]
 
-    def with_timing(self, timing):
-        """The setup with another timing."""
-        return Setup(self.deeds, timing, self.mark_entries, self.question_entries)
-
-    def with_deeds(self, deeds):
-        """The setup with other deeds."""
-        return Setup(deeds, self.timing, self.mark_entries, self.question_entries)
-
-    def with_mark(self, entry):
+    def with_mark(self, name, fact, rule):
         """The setup with one more mark, or with another one of this name."""
-        return Setup(self.deeds, self.timing, replaced(self.mark_entries, entry), self.question_entries)
+        marks = with_entry(self.marks, mark_entry(self.deeds, name, fact, rule))
+        return Setup(self.deeds, self.timing, marks, self.questions)
 
-    def with_question(self, entry):
+    def with_question(self, name, fact, kind):
         """The setup with one more question, or with another one of this name."""
-        return Setup(self.deeds, self.timing, self.mark_entries, replaced(self.question_entries, entry))
+        questions = with_entry(self.questions, question_entry(self.deeds, name, fact, kind))
+        return Setup(self.deeds, self.timing, self.marks, questions)
 
     def without(self, name):
         """The setup without the mark or question of this name."""
-        marks = [entry for entry in self.mark_entries if entry[0] != name]
-        return Setup(self.deeds, self.timing, marks, [entry for entry in self.question_entries if entry[0] != name])
+        marks = [entry for entry in self.marks if entry.name != name]
+        return Setup(self.deeds, self.timing, marks, [entry for entry in self.questions if entry.name != name])
+
+    def with_timing(self, timing):
+        """The setup with another timing."""
+        return Setup(self.deeds, timing, self.marks, self.questions)
+
+    def with_deeds(self, deeds):
+        """The setup with other deeds, for which all marks and then all questions are made anew."""
+        marks = [mark_entry(deeds, entry.name, entry.fact, entry.way) for entry in self.marks]
+        questions = [question_entry(deeds, entry.name, entry.fact, entry.way) for entry in self.questions]
+        return Setup(deeds, self.timing, marks, questions)
 
     def check(self):
         """Raise an error unless the lot suffices for all questions."""
-        for question in self.questions:
-            places_for(question, self.lot, self.timing)
-        for name, question in self.named_questions():
-            found = clash(question, self.lot, self.timing)
+        # Too many places for any question come ahead of a clash for any question.
+        for entry in self.questions:
+            places_for(entry.made, self.lot, self.timing)
+        for entry in self.questions:
+            found = clash(entry.made, self.lot, self.timing)
             if found is not None:
-                raise Refused(name, found)
+                raise Refused(entry.name, found)
 
     def needing(self, name):
         """The names of the questions for which the lot without this mark does not suffice."""
-        kept = [mark for own, mark in zip(self.mark_names(), self.marks) if own != name]
-        asked = self.named_questions()
-        return tuple([own for own, question in asked if clash(question, Lot(kept), self.timing) is not None])
+        rest = self.without(name).lot
+        needing = [entry for entry in self.questions if clash(entry.made, rest, self.timing) is not None]
+        return tuple([entry.name for entry in needing])
 
     def slowest(self):
         """How many deeds a stretch may have at most, and the first question that refuses more; or None twice."""
-        rates = [rate(question, self.lot, owed=self.timing.owed)[0] for question in self.questions]
+        rates = [rate(entry.made, self.lot, owed=self.timing.owed)[0] for entry in self.questions]
         bounds = [most for most in rates if most is not None]
         if len(bounds) == 0:
             return (None, None)
-        return (min(bounds), self.question_names()[rates.index(min(bounds))])
+        return (min(bounds), self.questions[rates.index(min(bounds))].name)
 
 
-def replaced(entries, entry):
-    """The entries, in which this one takes the place of that with the same name, or else comes behind."""
-    if entry[0] not in [name for name, _, _ in entries]:
-        return entries + (entry,)
-    return tuple([entry if own[0] == entry[0] else own for own in entries])
+def bare_setup(deeds):
+    """The setup with these deeds and nothing else."""
+    return Setup(deeds, Timing(), [], [])

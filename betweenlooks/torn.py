@@ -14,6 +14,7 @@ class Torn:
     """Goes through the looks, those first with which the run may be the shortest.
 
     With `is_calm` those come first that may have the fewest deeds, however long the run ahead of them is.
+
     For each row that stands somewhere, the looks are searched that tell it though it does not stand at any of their
     moments; for all other rows together, the looks that tell one of them.
 

@@ -122,6 +122,8 @@ class Steps(ErrorCase):
             desk.put(f"m{k}", Done(("open",)), "kept")
         self.assert_error(TooMany, ("marks", 7, 6), desk.put, "m5", Done(("shut",)), "kept")
         self.assert_error(BadRule, ("x",), desk.put, "m5", Done(("shut",)), "x")
+        self.assert_error(TooMany, ("marks", 7, 6), desk.put, "m5", Recent(4), "kept")
+        self.assert_error(TooMany, ("states", 61, 60), desk.put, "m4", Recent(4), "kept")
         desk.put(rule="cleared", fact=Done(("knock",)), name="m2")
         self.assertEqual(desk.marks, ("last", "m0", "m1", "m2", "m3", "m4"))
         self.assertEqual(desk["m2"], Mark(Done(("knock",)).machine_for(desk.deeds), "cleared"))

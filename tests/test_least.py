@@ -278,7 +278,7 @@ class Answers(ErrorCase):
             self.assertEqual(found.due(before, now, state), due[k])
             self.assertEqual(found.standing(before, now, state), standing[k])
             if state in (None, 0):
-                self.assertEqual(found.due(before, now), due[k])
+                self.assertEqual((found.due(before, now), found.standing(before, now)), (due[k], standing[k]))
 
     def test_watchers_that_read_it(self):
         chance = random.Random(52)
@@ -374,6 +374,18 @@ class Errors(ErrorCase):
             many = len(images(question.core))
             if many >= 150:
                 seen.add(many)
+                if many > 300:
+                    self.assert_error(TooMany, ("images", 301, 300), least, question, "kept")
+                else:
+                    self.assertIsInstance(least(question, "kept"), Never)
+
+    def test_just_three_hundred_images(self):
+        """The seeds were searched for."""
+        for seed, many in [(2000092, 300), (7000802, 300), (2000191, 301), (2000381, 301)]:
+            machine = some_table(random.Random(seed), ("a", "b", "c"), 10, None)
+            for kind in ("stretch", "joined"):
+                question = Question(machine, kind)
+                self.assertEqual(len(images(question.core)), many)
                 if many > 300:
                     self.assert_error(TooMany, ("images", 301, 300), least, question, "kept")
                 else:

@@ -317,6 +317,9 @@ class Errors(ErrorCase):
         self.assert_all(TooMany, ("marks", 7, 6), self.calls(ASKED, [other, big, wide, *[wide] * 4], timing=owed))
         self.assert_all(TooMany, ("marks", 9, 6), self.calls(ASKED, [big] * 9))
         self.assert_all(OtherDeeds, (FR, ("r", "f")), self.calls(ASKED, [big, wide, other], timing=owed))
+        third = Mark(ring(2, None, X), "kept")
+        self.assert_all(OtherDeeds, (FR, ("r", "f")), self.calls(ASKED, [other, big, third]))
+        self.assert_all(OtherDeeds, (FR, X), self.calls(ASKED, [big, third, other]))
         self.assert_all(NoDeed, (1,), self.calls(ASKED, [big, wide], timing=owed))
         self.assert_all(TooMany, PLACES, self.calls(ASKED, [big, wide]))
 

@@ -88,6 +88,15 @@ class Reports(ErrorCase):
         machine = Machine(("a",), [[1], [0]], ["z", "b"])
         self.assertEqual(report(plan, lot, machine, "some", 1).answers, {("1",): "b"})
 
+    def test_a_longer_way_may_have_fewer_deeds_in_a_look(self):
+        """A place that matters comes only behind a look that is longer than it might be, and has fewer deeds in it."""
+        tables = [[[0, 1, 1], [1, 0, 0], [2, 2, 2]], [[1, 1, 0], [1, 1, 1], [0, 0, 2]],
+                  [[3, 0, 3], [1, 3, 0], [1, 2, 3], [2, 3, 0]]]
+        machines = [Machine(("a", "b", "c"), rows, "0123"[:len(rows)]) for rows in tables]
+        lot = Lot([Mark(machine, rule) for machine, rule in zip(machines, ("cleared", "cleared", "kept"))])
+        found = self.assert_report(Plan((2, 0, 1), (1, 2, 0)), lot, machines[2], "some", 2)
+        self.assertEqual(found.answers[("1", "0", "1")], "1")
+
     def test_failed_looks_tell_nothing(self):
         plan = Plan((0, 1), (0, 1), (), ((0, ("7",)),))
         for when in WHENS:

@@ -142,9 +142,11 @@ class Sessions(unittest.TestCase):
     def test_the_examples_of_the_readme(self):
         blocks = README.read_text(encoding="utf-8").split("```")[1::2]
         examples = [block for block in blocks if ">>>" in block]
-        self.assertEqual(len(examples), 2)
+        self.assertEqual(len(examples), 3)
         self.play(examples[0], 7)
         self.play(examples[1], 14)
+        # The last ones go on with what the others made.
+        self.play("".join(examples), 37)
 
 
 if __name__ == "__main__":
